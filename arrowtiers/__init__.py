@@ -1,0 +1,1 @@
+"""Arrowtiers: nets of arrows drawn in rows."""
