@@ -7,6 +7,7 @@ import time
 
 from arrowtiers.errors import NoArrow
 from arrowtiers.nets import Net
+from arrowtiers.sheets import Sheet
 
 LETTERS = "abcdefghijklmnopqrstuvwxyz"
 BIG = 10 ** 59
@@ -73,6 +74,43 @@ def has_ring(boxes, ends):
         if reached[a][k] and reached[k][b]:
             reached[a][b] = True
     return any(reached[a][a] for a in range(boxes))
+
+
+def most_arrows_to(box, ends):
+    """How many arrows the longest way to the box has."""
+    return max([0] + [1 + most_arrows_to(a, ends) for a, b in ends if b == box])
+
+
+def close_rows(net, turned):
+    ends = goes(net, turned)
+    return [most_arrows_to(box, ends) for box in range(net.many())]
+
+
+def loose_rows(dice, net, turned):
+    """Rows that are down, with empty ones between and ahead."""
+    rows = close_rows(net, turned)
+    spread = sorted(dice.sample(range(12), max(rows) + 1))
+    return [spread[row] for row in rows]
+
+
+def some_sheets(seed, nets):
+    """Two sheets of each net, by close rows and by loose ones."""
+    dice = chance(seed)
+    sheets = []
+    for net in nets:
+        turned = ringless_turned(dice, net)
+        sheets.append(Sheet(net, turned, close_rows(net, turned)))
+        sheets.append(Sheet(net, turned, loose_rows(dice, net, turned)))
+    return sheets
+
+
+def some_order(dice, sheet):
+    """The nodes of each row in any order."""
+    rows = [sheet.row_of(node) for node in range(sheet.many_nodes())]
+    order = [[node for node, its_row in enumerate(rows) if its_row == row] for row in range(sheet.many_rows())]
+    for line in order:
+        dice.shuffle(line)
+    return order
 
 
 def check_ring(case, ring, ends):

@@ -34,6 +34,7 @@ BARRED_NAMES = (
     " credits delattr dir eval exec exit gc getattr globals hasattr help id importlib license locals methodcaller os"
     " quit setattr vars sys format format_map chr print"
 ).split()
+CHANGING = "append clear extend insert pop remove reverse setdefault update sort add discard".split()
 FUNCTIONS = (ast.FunctionDef, ast.Lambda)
 
 
@@ -199,6 +200,59 @@ def wrong_defaults(text, tree):
     return lines(tree, wrong)
 
 
+def is_iterated_at_once(node):
+    if not isinstance(node, ast.Call):
+        return False
+    if isinstance(node.func, ast.Name):
+        return node.func.id in ("zip", "enumerate", "reversed", "range")
+    return isinstance(node.func, ast.Attribute) and node.func.attr in ("items", "keys", "values")
+
+
+def wrong_stored(text, tree):
+    def wrong(node):
+        if isinstance(node, (ast.Assign, ast.AugAssign, ast.Return)):
+            return is_iterated_at_once(node.value)
+        return isinstance(node, (ast.List, ast.Tuple)) and any(is_iterated_at_once(item) for item in node.elts)
+    return lines(tree, wrong)
+
+
+def is_set(node):
+    if isinstance(node, ast.Call):
+        return isinstance(node.func, ast.Name) and node.func.id in ("set", "frozenset")
+    return isinstance(node, (ast.Set, ast.SetComp))
+
+
+def wrong_sets(text, tree):
+    """Sets that are iterated, told or put into something, under whatever name the function gives them."""
+    found = []
+    for function in [node for node in ast.walk(tree) if isinstance(node, ast.FunctionDef)]:
+        rows = list(ast.walk(function))
+        stored = {row.targets[0].id for row in rows if isinstance(row, ast.Assign) and is_set(row.value)}
+        for node in rows:
+            used = [node.iter] if isinstance(node, (ast.For, ast.comprehension)) else []
+            used += [node.value] if isinstance(node, ast.Return) else []
+            used += node.elts if isinstance(node, (ast.List, ast.Tuple)) else []
+            found += [item.lineno for item in used if is_set(item)]
+            found += [item.lineno for item in used if isinstance(item, ast.Name) and item.id in stored]
+    return found
+
+
+def wrong_loops(text, tree):
+    """Loops that alter the very list or dict that they go through."""
+    found = []
+    for loop in [node for node in ast.walk(tree) if isinstance(node, ast.For)]:
+        gone_through = {node.id for node in ast.walk(loop.iter) if isinstance(node, ast.Name)}
+        for node in [part for row in loop.body for part in ast.walk(row)]:
+            changed = None
+            if isinstance(node, ast.Subscript) and not isinstance(node.ctx, ast.Load):
+                changed = node.value
+            elif isinstance(node, ast.Attribute) and node.attr in CHANGING:
+                changed = node.value
+            if isinstance(changed, ast.Name) and changed.id in gone_through:
+                found.append(node.lineno)
+    return found
+
+
 CHECKS = (
     (wrong_imports, "import os\n", "from .errors import NoNet\n", "from os import path\n"),
     (wrong_module_level, "list()\n", "A = len('a')\n", "for k in (1, 2):\n    pass\n"),
@@ -214,6 +268,10 @@ CHECKS = (
     (wrong_catches, "def f():\n    try:\n        pass\n    except Exception:\n        pass\n",),
     (wrong_raises, "def f(a):\n    raise a\n", "def f(a):\n    raise ValueError\n"),
     (wrong_escapes, "A = '\\x41'\n",),
+    (wrong_stored, "def f(a):\n    b = zip(a, a)\n", "def f(a):\n    return a.items()\n", "A = [range(3)]\n"),
+    (wrong_sets, "def f(a):\n    for b in set(a):\n        pass\n", "def f():\n    a = set()\n    return a\n"),
+    (wrong_loops, "def f(a):\n    for b in a:\n        a.append(b)\n",
+     "def f(a):\n    for b, c in enumerate(a):\n        a[b] = 1\n"),
     (wrong_defaults, "def f(a=[]):\n    pass\n", "def f(a, /):\n    pass\n"),
 )
 

@@ -85,10 +85,6 @@ class IsDown(unittest.TestCase):
             samples.check_no_turned(self, lambda turned: is_down(FIVE, turned, tuple(rows)))
 
 
-def most_arrows_to(box, ends):
-    return max([0] + [1 + most_arrows_to(a, ends) for a, b in ends if b == box])
-
-
 class FewestRows(unittest.TestCase):
     def check(self, net, turned):
         ends = samples.goes(net, turned)
@@ -97,7 +93,7 @@ class FewestRows(unittest.TestCase):
             self.assertIs(type(told), tuple)
             rows, way = told
             samples.check_down(self, rows, net.many(), ends)
-            self.assertEqual(rows, [most_arrows_to(box, ends) for box in range(net.many())])
+            self.assertEqual(rows, [samples.most_arrows_to(box, ends) for box in range(net.many())])
             samples.check_numbers(self, way)
             self.assertEqual([rows[box] for box in way], list(range(max(rows) + 1)))
             for pair in zip(way, way[1:]):
