@@ -34,6 +34,27 @@ def crossings(sheet, order):
     return len(crossing_pairs(sheet, order))
 
 
+def nodes_above(sheet):
+    """For each node the upper ends of the pieces that come to it."""
+    above = [[] for node in range(sheet.many_nodes())]
+    for upper, lower in sheet.pieces():
+        above[lower].append(upper)
+    return above
+
+
+def nodes_below(sheet):
+    """For each node the lower ends of the pieces that go from it."""
+    below = [[] for node in range(sheet.many_nodes())]
+    for upper, lower in sheet.pieces():
+        below[upper].append(lower)
+    return below
+
+
+def crossed(left, right, places):
+    """How many pieces of two nodes of a row cross: the ends beside that row of the left one's and the right one's."""
+    return len([1 for one in left for other in right if places[one] > places[other]])
+
+
 def check_two_nodes(sheet, u, v):
     if sheet.row_of(u) != sheet.row_of(v) or u == v:
         raise NoNode("these are not two nodes of one row")
@@ -44,7 +65,5 @@ def check_two_nodes(sheet, u, v):
 def sum_of(sheet, order, u, v):
     check_sheet_order(sheet, order)
     check_two_nodes(sheet, u, v)
-    places = places_in(order)
-    to_u = [places[upper] for upper, lower in sheet.pieces() if lower == u]
-    to_v = [places[upper] for upper, lower in sheet.pieces() if lower == v]
-    return len([1 for left in to_u for right in to_v if left > right])
+    above = nodes_above(sheet)
+    return crossed(above[u], above[v], places_in(order))

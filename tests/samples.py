@@ -5,7 +5,7 @@ import itertools
 import random
 import time
 
-from arrowtiers.errors import NoArrow
+from arrowtiers.errors import NoArrow, NoOrder
 from arrowtiers.nets import Net
 from arrowtiers.sheets import Sheet
 
@@ -40,6 +40,16 @@ def some_nets(seed, many, least, most, most_arrows=24):
     """So many nets of least to most boxes, with any number of arrows."""
     dice = chance(seed)
     return [some_net(dice, dice.randint(least, most), dice.randint(0, most_arrows)) for count in range(many)]
+
+
+def with_names(dice, net):
+    """The same net with names of one to eight letters."""
+    names = []
+    while len(names) < net.many():
+        name = "".join(dice.choices(LETTERS, k=dice.choice((1, 2, 3, 5, 8))))
+        if name not in names:
+            names.append(name)
+    return Net(names, net.arrows())
 
 
 def great_nets(seed, many):
@@ -111,6 +121,97 @@ def some_order(dice, sheet):
     for line in order:
         dice.shuffle(line)
     return order
+
+
+def all_orders(sheet):
+    rows = [sheet.row_of(node) for node in range(sheet.many_nodes())]
+    lines = [[node for node, its_row in enumerate(rows) if its_row == row] for row in range(sheet.many_rows())]
+    return itertools.product(*[itertools.permutations(line) for line in lines])
+
+
+def two_orders():
+    """A sheet, and two orders of it that cross otherwise."""
+    sheet = Sheet(net_of(6, [(0, 4), (1, 3), (2, 3), (0, 5), (2, 5)]), [], [0, 0, 0, 1, 1, 2])
+    return sheet, [[0, 2, 1], [3, 4, 7, 6], [5]], [[2, 1, 0], [7, 3, 4, 6], [5]]
+
+
+def flat_sheet(above, below, arrows):
+    """Boxes in two rows, so many in the upper one, so many in the lower one."""
+    return Sheet(net_of(above + below, arrows), [], [0] * above + [1] * below)
+
+
+def long_sheet():
+    """As many nodes as a sheet can have: 24 arrows, each from row 0 to row 11."""
+    arrows = [(a, b) for a in range(6) for b in range(6, 12)][:24]
+    return Sheet(net_of(12, arrows), [], [0] * 6 + [11] * 6)
+
+
+def cross(sheet, order, one, other):
+    """Whether two pieces do, by where their ends stand in the lists."""
+    (a, b), (c, d) = one, other
+    if sheet.row_of(a) != sheet.row_of(c) or a == c or b == d:
+        return False
+    above, below = order[sheet.row_of(a)], order[sheet.row_of(a) + 1]
+    return (above.index(a) < above.index(c)) != (below.index(b) < below.index(d))
+
+
+def pairs_of(sheet, order):
+    """The pairs of numbers of pieces that cross."""
+    numbered = list(enumerate(sheet.pieces()))
+    return [(i, j) for (i, one), (j, other) in itertools.combinations(numbered, 2) if cross(sheet, order, one, other)]
+
+
+def sum_by_pieces(sheet, order, u, v):
+    """How many cross with u left of v, by a row in which both stand ahead of all others."""
+    row = sheet.row_of(u)
+    other = [list(line) for line in order]
+    other[row] = [u, v] + [node for node in order[row] if node not in (u, v)]
+    to_u = [piece for piece in sheet.pieces() if piece[1] == u]
+    to_v = [piece for piece in sheet.pieces() if piece[1] == v]
+    return sum(cross(sheet, other, one, another) for one in to_u for another in to_v)
+
+
+def width_of(sheet, node):
+    return len(sheet.net().names()[node]) if sheet.arrow_of(node) is None else 1
+
+
+def keeps(sheet, order, gap, places):
+    """Whether these are places that keep order and gap, node by node."""
+    if len(places) != sheet.many_nodes() or min(places) < 0:
+        return False
+    pairs = [pair for line in order for pair in zip(line, line[1:])]
+    return all(places[right] - places[left] >= width_of(sheet, left) + gap for left, right in pairs)
+
+
+def runs_straight(sheet, places, arrow):
+    return len({places[node] for node in sheet.way(arrow) if sheet.arrow_of(node) == arrow}) <= 1
+
+
+def kinds_of(order):
+    """The order as lists of lists, tuples of tuples, and either inside the other."""
+    return (
+        [list(line) for line in order], tuple(tuple(line) for line in order), [tuple(line) for line in order],
+        tuple(list(line) for line in order), [list(line) if at % 2 else tuple(line) for at, line in enumerate(order)],
+    )
+
+
+def sheet_for_orders():
+    """Its rows of nodes, rising: [0, 1], [2, 6], [7, 8], [3, 4, 5]."""
+    return Sheet(net_of(6, [(0, 2), (1, 3), (2, 5)]), [], [0, 0, 1, 3, 3, 3])
+
+
+def wrong_orders():
+    """What is no order of that sheet."""
+    good = [[0, 1], [2, 6], [7, 8], [3, 4, 5]]
+    return (
+        [], [[]], good[:-1], good[1:], good + [[]], good + [[0]], [[]] + good, good[::-1],
+        [[0]] + good[1:], [[]] + good[1:], [[0, 1, 0]] + good[1:], [[0, 0]] + good[1:], [[1, 1]] + good[1:],
+        [[0, 1, 2]] + good[1:], [[0, 2], [1, 6]] + good[2:], [[1, 2]] + good[1:],
+        [[0, -1]] + good[1:], [[0, 1, -1]] + good[1:], [[0, 99]] + good[1:], [[0, 1, 99]] + good[1:],
+        [[0, BIG]] + good[1:], [[0, -BIG]] + good[1:], [good[1], good[0]] + good[2:],
+        good[:-1] + [[]], good[:-1] + [[3, 4]], good[:-1] + [[3, 4, 5, 5]], good[:-1] + [[3, 4, 9]],
+        [[0, 1, 2, 6], []] + good[2:], [[-2, -1]] + good[1:], [[]] * len(good),
+    )
 
 
 def check_ring(case, ring, ends):
@@ -198,6 +299,29 @@ def check_no_turned(case, ask):
             with case.assertRaises(NoArrow) as caught:
                 ask(given)
             case.assertEqual(caught.exception.arrow, arrow, turned)
+
+
+def check_no_order(case, ask):
+    """NoOrder of ask(sheet, order)."""
+    sheet = sheet_for_orders()
+    for order in wrong_orders():
+        for given in kinds_of(order):
+            case.assertRaises(NoOrder, ask, sheet, given)
+
+
+def check_orders_apart(case, ask, order, other):
+    """Point 2 of ask(order), which tells something else of the other order."""
+    case.assertNotEqual(ask(order), ask(other))
+    for one, another in ((order, other), (other, order)):
+        check_kept_apart(case, ask, one)
+        check_asked_anew(case, ask, one, another)
+        for given in kinds_of(one):
+            case.assertEqual(ask(given), ask(one))
+        held = [list(line) for line in one]
+        ask(held)
+        for line, new in zip(held, another):
+            line[:] = new
+        case.assertEqual(ask(held), ask(another))
 
 
 def check_time(case, ask, seconds):
