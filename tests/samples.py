@@ -5,6 +5,7 @@ import itertools
 import random
 import time
 
+from arrowtiers.drawings import Drawing
 from arrowtiers.errors import NoArrow, NoOrder
 from arrowtiers.nets import Net
 from arrowtiers.sheets import Sheet
@@ -185,6 +186,57 @@ def keeps(sheet, order, gap, places):
 
 def runs_straight(sheet, places, arrow):
     return len({places[node] for node in sheet.way(arrow) if sheet.arrow_of(node) == arrow}) <= 1
+
+
+def some_places(dice, sheet, order, gap):
+    """Places that keep order and gap, some just so, some with more room."""
+    places = [0] * sheet.many_nodes()
+    for line in order:
+        at = dice.choice((0, 0, 1, 7))
+        for node in line:
+            places[node] = at
+            at += width_of(sheet, node) + gap + dice.choice((0, 0, 0, 1, 2, 9))
+    return places
+
+
+def some_drawings(seed, nets):
+    """Of each net two drawings, with other names, in any order, with any gap."""
+    dice = chance(seed)
+    drawings = []
+    for sheet in some_sheets(seed + 1, [with_names(dice, net) for net in nets]):
+        order = some_order(dice, sheet)
+        gap = dice.choice((1, 2, 3, 10, 100))
+        drawings.append(Drawing(sheet, order, gap, some_places(dice, sheet, order, gap)))
+    return drawings
+
+
+def told_by_sheet(sheet):
+    nodes = range(sheet.many_nodes())
+    return (
+        sheet.net().names(), sheet.net().arrows(), sheet.turned(), sheet.rows(), sheet.many_rows(),
+        sheet.many_nodes(), [sheet.row_of(node) for node in nodes], [sheet.arrow_of(node) for node in nodes],
+        [sheet.nodes_in(row) for row in range(sheet.many_rows())], sheet.pieces(),
+        [sheet.way(arrow) for arrow in range(len(sheet.net().arrows()))],
+    )
+
+
+def told_by_drawing(drawing):
+    return told_by_sheet(drawing.sheet()), drawing.order(), drawing.gap(), drawing.places()
+
+
+def text_of(sheet, order, places):
+    """The text of a drawing, as the tests write it."""
+    names = sheet.net().names()
+    ways = [sheet.way(arrow) for arrow in range(len(sheet.net().arrows()))]
+    rows = []
+    for row, line in enumerate(order):
+        if row > 0:
+            above = order[row - 1]
+            pieces = [(above.index(a), line.index(b), sheet.turned().count(arrow), a, b)
+                      for arrow, way in enumerate(ways) for a, b in zip(way, way[1:]) if b in line]
+            rows.append("down" + "".join(f" {places[a]}{'-^'[up]}{places[b]}" for *ends, up, a, b in sorted(pieces)))
+        rows.append("row" + "".join(f" {places[node]}:{(names + ['.'])[min(node, len(names))]}" for node in line))
+    return "".join(row + "\n" for row in rows)
 
 
 def kinds_of(order):

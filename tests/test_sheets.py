@@ -15,13 +15,7 @@ BIG = samples.BIG
 
 
 def told_by(sheet):
-    nodes = range(sheet.many_nodes())
-    return (
-        sheet.net().names(), sheet.net().arrows(), sheet.turned(), sheet.rows(), sheet.many_rows(),
-        sheet.many_nodes(), [sheet.row_of(node) for node in nodes], [sheet.arrow_of(node) for node in nodes],
-        [sheet.nodes_in(row) for row in range(sheet.many_rows())], sheet.pieces(),
-        [sheet.way(arrow) for arrow in range(len(sheet.net().arrows()))], first_order(sheet),
-    )
+    return (*samples.told_by_sheet(sheet), first_order(sheet))
 
 
 class Examples(unittest.TestCase):
